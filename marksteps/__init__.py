@@ -1,0 +1,1 @@
+"""Marksteps: rows listed so that each differs from the next by one change."""
