@@ -30,7 +30,7 @@ def nodes():
 class SourcesTest(unittest.TestCase):
     def test_files_are_there(self):
         names = [path.name for path, text in sources()]
-        for name in ("__init__.py", "counts.py", "errors.py"):
+        for name in ("__init__.py", "choosing.py", "counts.py", "errors.py", "listing.py", "turning.py"):
             self.assertIn(name, names)
 
     def test_only_files_of_the_language(self):
@@ -53,6 +53,12 @@ class SourcesTest(unittest.TestCase):
             self.assertNotIsInstance(node, OUT, (name, getattr(node, "lineno", None)))
             if isinstance(node, ast.Constant):
                 self.assertNotIsInstance(node.value, (float, complex, bytes), (name, node.lineno))
+            if isinstance(node, ast.BinOp) and isinstance(node.op, ast.Pow):
+                self.assertIsInstance(node.right, ast.Constant, (name, node.lineno))
+            if isinstance(node, ast.Assign):
+                self.assertEqual(len(node.targets), 1, (name, node.lineno))
+            if isinstance(node, (ast.For, ast.While)):
+                self.assertEqual(node.orelse, [], (name, node.lineno))
             if isinstance(node, (ast.FunctionDef, ast.ClassDef)):
                 self.assertEqual(node.decorator_list, [], (name, node.lineno))
 
